@@ -1,0 +1,1 @@
+"""Tables of 1 and -1 whose rows are balanced two by two."""
