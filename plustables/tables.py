@@ -27,8 +27,15 @@ def all_balanced(rows):
 
 
 def balanced(one_row, other_row):
-    same = [a for a, b in zip(one_row, other_row) if a == b]
-    return 2 * len(same) == len(one_row)
+    return 2 * places_alike(one_row, other_row) == len(one_row)
+
+
+def places_alike(one_row, other_row):
+    return len([a for a, b in zip(one_row, other_row) if a == b])
+
+
+def has_place(rows, place):
+    return 0 <= place < len(rows)
 
 
 def need_square(rows):
@@ -59,6 +66,10 @@ def turned_at(row, signs):
 
 def turned_over(rows):
     need_table(rows)
+    return all_columns(rows)
+
+
+def all_columns(rows):
     return [column(rows, place) for place in range(len(rows))]
 
 

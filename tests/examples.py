@@ -1,11 +1,13 @@
 """Tables for the tests, built otherwise than the program builds them."""
 
 import itertools
+import random
 
 SIZES = (1, 2, 4, 8, 12, 16, 20, 24)
 
 # What the squares of 1, 2, 3 .. leave when divided by the prime.
 RESIDUES = {
+    7: (1, 2, 4),
     11: (1, 3, 4, 5, 9),
     19: (1, 4, 5, 6, 7, 9, 11, 16, 17),
     23: (1, 2, 3, 4, 6, 8, 9, 12, 13, 16, 18),
@@ -41,6 +43,40 @@ def mixed(size, seed):
         [number * sign(seed, i) * sign(seed + 5, j) for j, number in enumerate(row)]
         for i, row in enumerate(rows)
     ]
+
+
+def shuffled(rows, seed):
+    """The rows and columns in any order, some turned; the same each time for one seed."""
+    chance = random.Random(seed)
+    size = len(rows)
+    columns = chance.sample(range(size), size)
+    signs = [chance.choice((1, -1)) for _ in range(size)]
+    found = []
+    for i in chance.sample(range(size), size):
+        row_sign = chance.choice((1, -1))
+        found.append([rows[i][j] * signs[j] * row_sign for j in columns])
+    return found
+
+
+def any_square(size, seed):
+    chance = random.Random(seed)
+    return [[chance.choice((1, -1)) for _ in range(size)] for _ in range(size)]
+
+
+def any_tables():
+    """Tables of every size, the small ones all."""
+    yield from all_squares(1)
+    yield from (rows for rows in all_squares(2) if looks_like_table(rows))
+    for size in SIZES:
+        yield from (shuffled(table(size), seed) for seed in range(8))
+    yield of_residues(7)
+
+
+def any_squares():
+    """Squares of every size, among them tables and squares that are none."""
+    for size in range(1, 25):
+        yield from (any_square(size, seed) for seed in range(4))
+    yield from any_tables()
 
 
 def coprime(one, other):

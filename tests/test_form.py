@@ -1,6 +1,8 @@
 """The package draws on nothing but itself: no clock, no chance, no files; and its files keep to their form."""
 
 import ast
+import importlib
+import inspect
 import pathlib
 import re
 import unittest
@@ -12,6 +14,16 @@ ALLOWED = set(
     "ord repr any all divmod Exception ValueError TypeError KeyError IndexError LookupError ZeroDivisionError "
     "ArithmeticError OverflowError RuntimeError NotImplementedError AttributeError StopIteration".split()
 )
+INTERFACE = {
+    "tables": {
+        "is_square": "rows", "is_table": "rows", "plain": "rows", "turned_over": "rows", "product": "one other",
+    },
+    "making": {"made": "size"},
+    "moves": {"moved": "rows moves", "led": "one other"},
+    "weighing": {"weighed": "rows numbers", "back": "rows sums", "told_row": "rows word"},
+    "counts": {"determinant": "rows", "excess": "rows", "agree": "rows one two three", "blocks": "rows"},
+    "notes": {"shown": "rows", "read": "text"},
+}
 
 
 def trees():
@@ -34,8 +46,15 @@ def bound_names(tree):
 class Form(unittest.TestCase):
     def test_there_are_the_files_of_the_interface(self):
         names = [file.relative_to(PACKAGE).as_posix() for file in FILES]
-        for name in ("__init__.py", "errors.py", "tables.py", "making.py"):
+        for name in ["__init__.py", "errors.py"] + [module + ".py" for module in INTERFACE]:
             self.assertIn(name, names)
+
+    def test_there_are_the_functions_of_the_interface(self):
+        for module, functions in INTERFACE.items():
+            held = importlib.import_module("plustables." + module)
+            for name, arguments in functions.items():
+                with self.subTest(module=module, name=name):
+                    self.assertEqual(list(inspect.signature(getattr(held, name)).parameters), arguments.split())
 
     def test_only_the_package_itself_is_imported(self):
         for name, tree in trees():
